@@ -18,10 +18,13 @@ import (
 // mostLines is how long a function may be.
 const mostLines = 60
 
+// given is the folder in which .ci/run lays the tests that are none of the project's own.
+const given = "sharedtests"
+
 // library is what the program may take from Go's own packages.
 var library = strings.Fields("bytes cmp container/heap errors iter maps math math/bits slices sort strconv strings sync sync/atomic unicode unicode/utf8")
 
-// calls is the document's map: the layers that each layer calls.
+// calls is the document's map: the layers that each layer calls. What is for tests alone no layer calls.
 var calls = map[string]string{
 	"api":    "",
 	"soft":   "",
@@ -47,6 +50,7 @@ var calls = map[string]string{
 	"arena":  "plan",
 	"exec":   "shape tens graph ewise denote quick plan arena",
 	"run":    "onnx graph infer fold bound plan arena exec",
+	"seeds":  "",
 	"checks": "",
 }
 
@@ -63,6 +67,9 @@ func sources(t *testing.T) []source {
 	t.Helper()
 	var all []source
 	err := filepath.WalkDir("..", func(path string, d fs.DirEntry, err error) error {
+		if d != nil && d.IsDir() && d.Name() == given {
+			return filepath.SkipDir
+		}
 		if err != nil || d.IsDir() || !strings.HasSuffix(path, ".go") || strings.HasSuffix(path, "_test.go") {
 			return err
 		}

@@ -6,6 +6,7 @@ import (
 	"testing"
 
 	"lattice/api"
+	"lattice/seeds"
 )
 
 // This file holds what the tests are held against: the chapters' words over rational numbers, and floats to try.
@@ -36,7 +37,7 @@ func singles(n int, f func(a uint32)) {
 	for _, a := range both() {
 		f(a)
 	}
-	s := seed(1)
+	s := seed{1}
 	for range n {
 		f(s.float())
 	}
@@ -45,11 +46,11 @@ func singles(n int, f func(a uint32)) {
 // triples calls f with edges three by three, and with n others, the third of which often takes most of the product away.
 func triples(n int, f func(a, b, c uint32)) {
 	all := both()
-	s := seed(2)
+	s := seed{2}
 	for _, a := range all {
 		for _, b := range all {
 			for range 6 {
-				f(a, b, all[s.below(len(all))])
+				f(a, b, all[s.Below(len(all))])
 			}
 			f(a, b, s.near(product(a, b)))
 		}
@@ -67,23 +68,13 @@ func product(a, b uint32) uint32 {
 	return math.Float32bits(math.Float32frombits(a) * math.Float32frombits(b))
 }
 
-// seed tells numbers that look like chance and are the same each time.
-type seed uint64
-
-func (s *seed) next() uint64 {
-	*s += 0x9E3779B97F4A7C15
-	z := uint64(*s)
-	z = (z ^ z>>30) * 0xBF58476D1CE4E5B9
-	z = (z ^ z>>27) * 0x94D049BB133111EB
-	return z ^ z>>31
-}
-
-func (s *seed) below(n int) int { return int(s.next() % uint64(n)) }
+// seed tells floats to try beside numbers.
+type seed struct{ seeds.Seed }
 
 // float is any float; small, whole and common ones come more often than by chance.
 func (s *seed) float() uint32 {
-	x := uint32(s.next())
-	switch s.below(8) {
+	x := uint32(s.Next())
+	switch s.Below(8) {
 	case 0:
 		return x &^ 0x7F800000
 	case 1:
@@ -95,7 +86,7 @@ func (s *seed) float() uint32 {
 	case 4:
 		return x &^ 0x00000FFF
 	case 5:
-		return x&0x807FFFFF | uint32(120+s.below(40))<<23
+		return x&0x807FFFFF | uint32(120+s.Below(40))<<23
 	}
 	return x
 }
@@ -103,13 +94,13 @@ func (s *seed) float() uint32 {
 // near is a float that is often about as great as a, or so much greater or less that few of its bits count.
 func (s *seed) near(a uint32) uint32 {
 	b := s.float()
-	switch s.below(4) {
+	switch s.Below(4) {
 	case 0:
 		return b&0x807FFFFF | a&0x7F800000
 	case 1:
-		return b&0x80000000 | (a+uint32(s.below(64))-32)&0x7FFFFFFF
+		return b&0x80000000 | (a+uint32(s.Below(64))-32)&0x7FFFFFFF
 	case 2:
-		return b&0x807FFFFF | (a&0x7F800000-uint32(s.below(140)-70)<<23)&0x7F800000
+		return b&0x807FFFFF | (a&0x7F800000-uint32(s.Below(140)-70)<<23)&0x7F800000
 	}
 	return b
 }

@@ -91,10 +91,10 @@ func TestFmaAtTies(t *testing.T) {
 		checkFma(t, half, 0x3F800000+tiny&0xFF, 0x3F800000|tiny&0x80000000)
 		checkFma(t, half, 0x3F800000+tiny&0xFF, 0x3F800001|tiny&0x80000000)
 	}
-	s := seed(3)
+	s := seed{3}
 	for range 4000 {
-		a := uint32(s.next())&0x7FFFFF | uint32(90+s.below(70))<<23
-		b := uint32(s.next())&0x7FFFFF | uint32(90+s.below(70))<<23
+		a := uint32(s.Next())&0x7FFFFF | uint32(90+s.Below(70))<<23
+		b := uint32(s.Next())&0x7FFFFF | uint32(90+s.Below(70))<<23
 		for off := range uint32(3) {
 			checkFma(t, a, b, (product(a, b)-1+off)^0x80000000)
 		}

@@ -22,12 +22,12 @@ func ints(n int, f func(n int64)) {
 	for _, n := range []int64{0, math.MinInt64, math.MinInt64 + 1, math.MaxInt64, math.MaxInt64 - 1} {
 		f(n)
 	}
-	s := seed(4)
+	s := seed{4}
 	for range n {
 		// Shifted there and back, so that ties come about.
-		k := s.below(64)
-		f(int64(s.next()>>k) << s.below(k+1))
-		f(int64(s.next()) >> k)
+		k := s.Below(64)
+		f(int64(s.Next()>>k) << s.Below(k+1))
+		f(int64(s.Next()) >> k)
 	}
 }
 
@@ -165,12 +165,12 @@ func TestScale(t *testing.T) {
 			check(a, k)
 		}
 	}
-	s := seed(5)
+	s := seed{5}
 	for range 40000 {
 		a := s.float()
-		check(a, s.below(600)-300)
+		check(a, s.Below(600)-300)
 		// To about the least floats, where bits are lost.
-		check(a, s.below(30)-15-int(a>>23&255))
+		check(a, s.Below(30)-15-int(a>>23&255))
 	}
 }
 

@@ -24,7 +24,7 @@ func TestLooking(t *testing.T) {
 	for _, a := range both() {
 		check(a)
 	}
-	s := seed(4)
+	s := seed{4}
 	for range 200000 {
 		check(s.float())
 	}

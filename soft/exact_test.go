@@ -6,6 +6,7 @@ import (
 	"sort"
 
 	"lattice/api"
+	"lattice/seeds"
 )
 
 // This file holds what the tests are held against: the chapter's words over rational numbers, and floats to try.
@@ -37,30 +38,20 @@ func pairs(n int, f func(a, b uint32)) {
 			f(a, b)
 		}
 	}
-	s := seed(1)
+	s := seed{1}
 	for range n {
 		a := s.float()
 		f(a, s.near(a))
 	}
 }
 
-// seed tells numbers that look like chance and are the same each time.
-type seed uint64
-
-func (s *seed) next() uint64 {
-	*s += 0x9E3779B97F4A7C15
-	z := uint64(*s)
-	z = (z ^ z>>30) * 0xBF58476D1CE4E5B9
-	z = (z ^ z>>27) * 0x94D049BB133111EB
-	return z ^ z>>31
-}
-
-func (s *seed) below(n int) int { return int(s.next() % uint64(n)) }
+// seed tells floats to try beside numbers.
+type seed struct{ seeds.Seed }
 
 // float is any float; small, whole and common ones come more often than by chance.
 func (s *seed) float() uint32 {
-	x := uint32(s.next())
-	switch s.below(8) {
+	x := uint32(s.Next())
+	switch s.Below(8) {
 	case 0:
 		return x &^ 0x7F800000
 	case 1:
@@ -78,13 +69,13 @@ func (s *seed) float() uint32 {
 // near is a float that is often about as great as a.
 func (s *seed) near(a uint32) uint32 {
 	b := s.float()
-	switch s.below(4) {
+	switch s.Below(4) {
 	case 0:
 		return b&0x807FFFFF | a&0x7F800000
 	case 1:
-		return b&0x80000000 | (a+uint32(s.below(64))-32)&0x7FFFFFFF
+		return b&0x80000000 | (a+uint32(s.Below(64))-32)&0x7FFFFFFF
 	case 2:
-		return b&0x807FFFFF | (a&0x7F800000-uint32(s.below(30))<<23)&0x7F800000
+		return b&0x807FFFFF | (a&0x7F800000-uint32(s.Below(30))<<23)&0x7F800000
 	}
 	return b
 }

@@ -55,9 +55,9 @@ func TestWaysInOrder(t *testing.T) {
 			}
 		}
 	})
-	s := seed(5)
+	s := seed{5}
 	for range 100000 {
-		neg, exp, sig, more := s.below(2) == 1, s.below(420)-240, s.next()>>s.below(64), s.below(2) == 1
+		neg, exp, sig, more := s.Below(2) == 1, s.Below(420)-240, s.Next()>>s.Below(64), s.Below(2) == 1
 		down, near, up := soft.Round(api.Down, neg, exp, sig, more), soft.Round(api.Nearest, neg, exp, sig, more), soft.Round(api.Up, neg, exp, sig, more)
 		if !inOrder(down, near, up) {
 			t.Fatalf("Round(%v, %d, %#x, %v): %08X, %08X, %08X", neg, exp, sig, more, down, near, up)
@@ -82,10 +82,10 @@ func TestVeryDifference(t *testing.T) {
 		}
 	}
 	pairs(40000, check)
-	s := seed(6)
+	s := seed{6}
 	for range 20000 {
 		a := s.float()
-		check(a, a&0x80000000|(a+uint32(s.below(1<<24))-1<<23)&0x7FFFFFFF)
+		check(a, a&0x80000000|(a+uint32(s.Below(1<<24))-1<<23)&0x7FFFFFFF)
 		check(a, a+0x00800000)
 	}
 	if tried < 10000 {
@@ -101,7 +101,7 @@ func within(a, b uint32) bool {
 
 // P1.11.
 func TestOrderKept(t *testing.T) {
-	s := seed(7)
+	s := seed{7}
 	pairs(200000, func(a, b uint32) {
 		if !soft.Less(a, b) {
 			a, b = b, a

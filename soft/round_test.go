@@ -42,15 +42,15 @@ func TestRoundAtEdges(t *testing.T) {
 
 // P1.1: other numbers of all lengths, exponents over the whole of the floats and somewhat beyond.
 func TestRoundOthers(t *testing.T) {
-	s := seed(2)
+	s := seed{2}
 	for range 20000 {
-		sig := s.next() >> s.below(64)
-		if s.below(2) == 0 {
+		sig := s.Next() >> s.Below(64)
+		if s.Below(2) == 0 {
 			// Few bits, so that ties come about.
-			n := s.below(64)
+			n := s.Below(64)
 			sig = sig >> n << n
 		}
-		checkRound(t, ways[s.below(len(ways))], s.below(2) == 1, s.below(420)-240, sig, s.below(2) == 1)
+		checkRound(t, ways[s.Below(len(ways))], s.Below(2) == 1, s.Below(420)-240, sig, s.Below(2) == 1)
 	}
 }
 
@@ -73,7 +73,7 @@ func TestRoundOfFloats(t *testing.T) {
 	for _, a := range both() {
 		check(a)
 	}
-	s := seed(3)
+	s := seed{3}
 	for range 100000 {
 		check(s.float())
 	}
