@@ -18,10 +18,10 @@ type of struct {
 // eight are the functions of one float.
 func eight() []of {
 	return []of{
-		// 0, ln 2 / 2, the ends; where the answers have the exponent field 0.
-		{"Exp", elem.Exp, wantExp, []uint32{0x3EB17218, 0x42B17217, 0xC2AEAC50, 0xC2CFF1B4, 0xC2D00000, 0x42B00000}},
-		// About the root of 1/2, 1 and the least with another exponent field than 0.
-		{"Log", elem.Log, wantLog, []uint32{0x3F3504F3, 0x3F800000, 0x3FB504F3, 0x00800000, 0x00400000, 1}},
+		// ln 2 / 2, the ends, where the answers have the exponent field 0, and where the last bit of the first constant is seen.
+		{"Exp", elem.Exp, wantExp, []uint32{0x3EB17218, 0x42B17217, 0xC2AEAC50, 0xC2CFF1B4, 0xC2D00000, 0x42B00000, 0x3F8A1156, 0x3F855715}},
+		// The root of 1/2, 1, the least ones, and where the last bits of the second and third constant are seen (that of the first never is).
+		{"Log", elem.Log, wantLog, []uint32{0x3F3504F3, 0x3F800000, 0x3FB504F3, 0x00800000, 0x00400000, 1, 0x3FB85820, 0x3FAAF3B8, 0x3FC06511}},
 		{"Sin", elem.Sin, wantSin, circleParts},
 		{"Cos", elem.Cos, wantCos, circleParts},
 		{"Tanh", elem.Tanh, wantTanh, []uint32{0x39800000, 0x3F800000, 0x41102CB3, 0x41317217, 0x42317217}},
