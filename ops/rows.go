@@ -49,7 +49,7 @@ func find(op int) row {
 	return rows()[op-1]
 }
 
-// elementRows are the operators that go element by element, whatever stands beside it.
+// elementRows are the operators that go element by element.
 func elementRows() []row {
 	return []row{
 		{"Abs", 1, 1, 1, 1, nil},
