@@ -62,7 +62,7 @@ func TestConstantOfShape(t *testing.T) {
 	check(t, node("ConstantOfShape", 1, 1), 62, api.Setting{Value: api.Tensor{Type: api.Float, Dims: []int{1}, F: []uint32{0}}}, api.OK)
 }
 
-// P8.2: pads together with each auto_pad, in either order.
+// P8.2: pads together with each auto_pad, in either order: that they are there counts, also without a number.
 func TestPadsAndAuto(t *testing.T) {
 	modes := map[string]int{"NOTSET": api.ModeNone, "VALID": api.ModeValid, "SAME_UPPER": api.ModeUpper, "SAME_LOWER": api.ModeLower}
 	for _, c := range []struct {
@@ -77,7 +77,7 @@ func TestPadsAndAuto(t *testing.T) {
 	} {
 		op := wantRowOf(c.op).op
 		for s, mode := range modes {
-			for _, list := range [][]int64{{}, {0}, {0, 0, 0, 0}, {1, 1}, {0, 0, 0, 1}, times(16, int64(4096))} {
+			for _, list := range [][]int64{nil, {}, {0}, {0, 0, 0, 0}, {1, 1}, {0, 0, 0, 1}, times(16, int64(4096))} {
 				want := c.s
 				want.Auto = mode
 				for _, n := range list {
@@ -85,7 +85,7 @@ func TestPadsAndAuto(t *testing.T) {
 				}
 				for _, attrs := range [][]api.Attr{{text("auto_pad", s), numbers("pads", list...)}, {numbers("pads", list...), text("auto_pad", s)}} {
 					n := node(c.op, c.in, 1, append(attrs, c.with...)...)
-					if s == "NOTSET" || len(list) == 0 {
+					if s == "NOTSET" {
 						check(t, n, op, want, api.OK)
 					} else {
 						checkErr(t, n, api.ErrAttr)

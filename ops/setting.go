@@ -28,8 +28,13 @@ func (r row) setting(given []api.Attr) (api.Setting, bool) {
 			return api.Setting{}, false
 		}
 	}
-	// Pads without a number say what stands without them, so they say nothing against padding by itself.
-	return s, len(s.Pads) == 0 || s.Auto == api.ModeNone
+	// It counts that the pads are there, not what they say: a list without a number clashes with padding by itself, too.
+	return s, s.Auto == api.ModeNone || !has(given, "pads")
+}
+
+// has: is there an attribute of that name?
+func has(given []api.Attr, name string) bool {
+	return slices.ContainsFunc(given, func(g api.Attr) bool { return g.Name == name })
 }
 
 // standing is what holds if all attributes are left out.

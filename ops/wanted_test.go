@@ -347,18 +347,14 @@ func wantNames(r *wantRow, n api.Node) bool {
 func wantAttrs(r *wantRow, given []api.Attr) bool {
 	times := map[string]int{}
 	auto := "NOTSET"
-	numbers := 0
 	for _, a := range given {
 		times[a.Name]++
 		w := r.attr(a.Name)
 		if w == nil || times[a.Name] > 1 || !wantMay(r.name, w, a) {
 			return false
 		}
-		switch a.Name {
-		case "auto_pad":
+		if a.Name == "auto_pad" {
 			auto = a.S
-		case "pads":
-			numbers = len(a.Ints)
 		}
 	}
 	for _, w := range r.attrs {
@@ -369,7 +365,7 @@ func wantAttrs(r *wantRow, given []api.Attr) bool {
 	if r.name == "Constant" && len(given) != 1 {
 		return false
 	}
-	return numbers == 0 || auto == "NOTSET"
+	return times["pads"] == 0 || auto == "NOTSET"
 }
 
 // wantResolve is the chapter's promise written down a second time.
