@@ -2,31 +2,37 @@ package graph
 
 import "lattice/api"
 
+// marks are the numbers that an output of a graph hangs on. They stand in a map, since in a graph that is not sound they may be those of no value.
+type marks map[int]struct{}
+
+func (m marks) add(list []int) {
+	for _, v := range list {
+		m[v] = struct{}{}
+	}
+}
+
+func (m marks) hasAny(list []int) bool {
+	for _, v := range list {
+		if _, is := m[v]; is {
+			return true
+		}
+	}
+	return false
+}
+
 // Live tells on which nodes an output hangs.
 func Live(g api.Graph) []bool {
 	live := make([]bool, len(g.Nodes))
-	needed := make([]bool, len(g.Vals))
-	need(g, needed, g.Outputs)
+	needed := marks{}
+	needed.add(g.Outputs)
 	// From the last node on, so that of each node all behind it are told.
 	for i := len(g.Nodes) - 1; i >= 0; i-- {
-		n := g.Nodes[i]
-		for _, v := range n.Out {
-			live[i] = live[i] || isValue(g, v) && needed[v]
-		}
+		live[i] = needed.hasAny(g.Nodes[i].Out)
 		if live[i] {
-			need(g, needed, n.In)
+			needed.add(g.Nodes[i].In)
 		}
 	}
 	return live
-}
-
-// need marks values; a number that is none's names nothing that could hang on a node.
-func need(g api.Graph, needed []bool, list []int) {
-	for _, v := range list {
-		if isValue(g, v) {
-			needed[v] = true
-		}
-	}
 }
 
 // Prune is a graph without the nodes that nothing hangs on.

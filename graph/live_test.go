@@ -57,14 +57,23 @@ func TestLiveNotSound(t *testing.T) {
 	lives(t, "an input that nothing defines", bare(3, nil, list(1), op(nil, list(0)), op(list(2, 0), list(1))), true, true)
 }
 
-// P9.3: a number that is that of no value is nobody's output and nobody's input, and -1 is an input that is left out.
+// P9.3: whether a number is that of a value is not asked, of -1 no more than of others.
 func TestLiveNoPlace(t *testing.T) {
 	for _, v := range []int{-1, -2, 3, 4, 1000000, math.MinInt, math.MaxInt} {
-		lives(t, "as an output of the graph", bare(3, nil, list(v), op(nil, list(v))), false)
-		lives(t, "as an input of a node", bare(3, nil, list(0), op(nil, list(v)), op(list(v), list(0))), false, true)
-		lives(t, "beside others", bare(3, list(v, 0), list(v, 2, v), op(list(v, 0), list(v, 1)), op(list(1, v), list(v, 2)), op(list(v), list(v))), true, true, false)
+		w := v ^ 1<<20
+		lives(t, "as an output of the graph", bare(3, nil, list(v), op(nil, list(v))), true)
+		lives(t, "as an output of the graph beside others", bare(3, nil, list(w, 0, v), op(nil, list(1, v, 2))), true)
+		lives(t, "another output of the graph", bare(3, nil, list(w), op(nil, list(v))), false)
+		lives(t, "no output of the graph", bare(3, list(v), nil, op(list(v), list(v))), false)
+		lives(t, "as an input of a node", bare(3, nil, list(0), op(nil, list(v)), op(list(v), list(0))), true, true)
+		lives(t, "another input of a node", bare(3, nil, list(0), op(nil, list(v)), op(list(w), list(0))), false, true)
+		lives(t, "as an input of a node that is not live", bare(3, nil, list(0), op(nil, list(v)), op(list(v), list(1))), false, false)
+		lives(t, "as an input of a node ahead", bare(3, nil, list(0), op(list(v), list(0)), op(nil, list(v))), true, false)
+		lives(t, "as an input of itself", bare(3, nil, nil, op(list(v), list(v))), false)
+		lives(t, "from one to the next", bare(0, nil, list(v), op(list(0), list(5)), op(list(v), list(w)), op(list(w), list(v))), false, true, true)
+		lives(t, "beside others", bare(3, list(v, 0), list(2), op(list(0), list(v)), op(nil, list(0)), op(list(w, v, 0), list(1, 2)), op(list(v), list(v))), true, true, true, false)
 	}
-	lives(t, "no values", bare(0, nil, list(0), op(list(0), list(0))), false)
+	lives(t, "no values", bare(0, nil, list(0), op(list(0), list(0))), true)
 }
 
 // P9.3: but for the nodes all stays, values that nothing uses any more, too.

@@ -217,14 +217,11 @@ func wantCheck(g api.Graph) api.Errno {
 	return api.OK
 }
 
-// wantLive is P9.3: what has no value's number is neither an input nor an output of anything.
+// wantLive is P9.3: numbers alone are held against one another, be they those of values or not.
 func wantLive(g api.Graph) []bool {
 	live := make([]bool, len(g.Nodes))
 	for i := range slices.Backward(g.Nodes) {
 		live[i] = slices.ContainsFunc(g.Nodes[i].Out, func(v int) bool {
-			if v < 0 || v >= len(g.Vals) {
-				return false
-			}
 			for j := i + 1; j < len(g.Nodes); j++ {
 				if live[j] && slices.Contains(g.Nodes[j].In, v) {
 					return true
